@@ -1,0 +1,395 @@
+package modify_test
+
+import (
+	"math"
+	"slices"
+	"testing"
+
+	"codewright/api"
+	"codewright/code"
+	"codewright/field"
+	"codewright/modify"
+)
+
+// random is a generator of numbers that are the same in each run.
+type random struct{ state uint64 }
+
+func (r *random) below(n int) int {
+	r.state = r.state*6364136223846793005 + 1442695040888963407
+	return int(r.state >> 33 % uint64(n))
+}
+
+// list returns n elements; about one in sparse of them is not 0.
+func (r *random) list(g *field.GF, n, sparse int) []int {
+	l := make([]int, n)
+	for i := range l {
+		if r.below(sparse) == 0 {
+			l[i] = r.below(g.Order())
+		}
+	}
+	return l
+}
+
+// code returns a code of length n that random words generate, as many as rows.
+func (r *random) code(t *testing.T, g *field.GF, rows, n int) api.Code {
+	t.Helper()
+	var list [][]int
+	sparse := 1 + r.below(3)
+	for range rows {
+		list = append(list, r.list(g, n, sparse))
+	}
+	return generated(t, g, n, list)
+}
+
+// set returns a strictly ascending list of numbers from 0 to n-1, about one in sparse of them.
+func (r *random) set(n, sparse int) []int {
+	var list []int
+	for i := range n {
+		if r.below(sparse) == 0 {
+			list = append(list, i)
+		}
+	}
+	return list
+}
+
+// perm returns a permutation of the numbers from 0 to n-1.
+func (r *random) perm(n int) []int {
+	list := make([]int, n)
+	for i := range list {
+		at := r.below(i + 1)
+		list[i] = list[at]
+		list[at] = i
+	}
+	return list
+}
+
+// generated returns the code of length n that the rows generate.
+func generated(t *testing.T, g *field.GF, n int, rows [][]int) api.Code {
+	t.Helper()
+	c, e := code.New(g.Field(), api.Matrix{Cols: n, Rows: rows})
+	if e != api.OK {
+		t.Fatal(n, rows, e)
+	}
+	return c
+}
+
+// dual returns the dual code of c.
+func dual(t *testing.T, c api.Code) api.Code {
+	t.Helper()
+	d, e := code.Dual(c)
+	if e != api.OK {
+		t.Fatal(c, e)
+	}
+	return d
+}
+
+// standard returns the standard field of order q.
+func standard(t *testing.T, q int) *field.GF {
+	t.Helper()
+	f, e := field.Standard(q)
+	if e != api.OK {
+		t.Fatal(q, e)
+	}
+	return made(t, f)
+}
+
+// made returns the field that f describes.
+func made(t *testing.T, f api.Field) *field.GF {
+	t.Helper()
+	g, e := field.New(f)
+	if e != api.OK {
+		t.Fatal(f, e)
+	}
+	return g
+}
+
+// unusual are descriptions of fields that are not the standard ones.
+var unusual = []api.Field{{P: 3, M: 2, Mod: []int{2, 1}}, {P: 2, M: 3, Mod: []int{1, 0, 1}}, {P: 2, M: 4, Mod: []int{1, 1, 1, 1}}}
+
+// fields returns standard fields of many orders, and others.
+func fields(t *testing.T) []*field.GF {
+	t.Helper()
+	var list []*field.GF
+	for _, q := range []int{2, 3, 4, 5, 7, 8, 9, 16, 25, 27, 64, 81, 128, 243, 251, 256} {
+		list = append(list, standard(t, q))
+	}
+	for _, f := range unusual {
+		list = append(list, made(t, f))
+	}
+	return list
+}
+
+// small returns fields that are small enough to go through all short words.
+func small(t *testing.T) []*field.GF {
+	t.Helper()
+	var list []*field.GF
+	for _, q := range []int{2, 3, 4, 5, 8, 9} {
+		list = append(list, standard(t, q))
+	}
+	return append(list, made(t, unusual[0]))
+}
+
+// longest returns the greatest length of which there are at most most words over g.
+func longest(g *field.GF, most int) int {
+	n, count := 0, 1
+	for count*g.Order() <= most {
+		n, count = n+1, count*g.Order()
+	}
+	return n
+}
+
+// noFields are descriptions of no field.
+var noFields = []api.Field{{}, {P: 4, M: 1}, {P: 2, M: 0}, {P: 2, M: 2}, {P: 2, M: 2, Mod: []int{0, 1}}, {P: 2, M: 1, Mod: []int{1}}, {P: 257, M: 1}, {P: 2, M: 9, Mod: make([]int, 9)}, {P: -1, M: 1}}
+
+// digits returns lists with the digits of the texts.
+func digits(texts ...string) [][]int {
+	var rows [][]int
+	for _, text := range texts {
+		row := []int{}
+		for _, digit := range text {
+			row = append(row, int(digit-'0'))
+		}
+		rows = append(rows, row)
+	}
+	return rows
+}
+
+// coded returns the code of length n over g that is given by these rows.
+func coded(g *field.GF, n int, texts ...string) api.Code {
+	return api.Code{F: g.Field(), N: n, Gen: digits(texts...)}
+}
+
+// words returns all words of length n.
+func words(g *field.GF, n int) [][]int {
+	list := [][]int{{}}
+	for range n {
+		var longer [][]int
+		for _, w := range list {
+			for x := range g.Elements() {
+				longer = append(longer, append(slices.Clone(w), x))
+			}
+		}
+		list = longer
+	}
+	return list
+}
+
+// spanned returns all different combinations of the rows, which have n entries.
+func spanned(g *field.GF, n int, rows [][]int) [][]int {
+	list, seen := [][]int{make([]int, n)}, map[string]bool{key(make([]int, n)): true}
+	for _, row := range rows {
+		for _, w := range list {
+			for x := range g.Elements() {
+				sum := plus(g, w, g.Scale(x, row))
+				if !seen[key(sum)] {
+					seen[key(sum)] = true
+					list = append(list, sum)
+				}
+			}
+		}
+	}
+	return list
+}
+
+// plus returns the sum of two words.
+func plus(g *field.GF, v, w []int) []int {
+	sum := make([]int, len(v))
+	for i, x := range v {
+		sum[i] = g.Add(x, w[i])
+	}
+	return sum
+}
+
+// key returns a text that differs for different words.
+func key(word []int) string {
+	text := make([]byte, len(word))
+	for i, x := range word {
+		text[i] = byte(x)
+	}
+	return string(text)
+}
+
+// sum returns the sum of the entries.
+func sum(g *field.GF, word []int) int {
+	total := 0
+	for _, x := range word {
+		total = g.Add(total, x)
+	}
+	return total
+}
+
+// subsets returns all strictly ascending lists of numbers from 0 to n-1.
+func subsets(n int) [][]int {
+	list := [][]int{nil}
+	for i := range n {
+		for _, set := range list {
+			list = append(list, append(slices.Clone(set), i))
+		}
+	}
+	return list
+}
+
+// permutations returns all permutations of the numbers from 0 to n-1.
+func permutations(n int) [][]int {
+	if n == 0 {
+		return [][]int{nil}
+	}
+	var list [][]int
+	for _, p := range permutations(n - 1) {
+		for at := range n {
+			list = append(list, slices.Insert(slices.Clone(p), at, n-1))
+		}
+	}
+	return list
+}
+
+// without returns the entries of the word at the positions that set does not name.
+func without(word, set []int) []int {
+	list := []int{}
+	for i, x := range word {
+		if !slices.Contains(set, i) {
+			list = append(list, x)
+		}
+	}
+	return list
+}
+
+// isCanonical reports whether the rows are in reduced row echelon form, none of them zero.
+func isCanonical(rows [][]int) bool {
+	last := -1
+	for i, row := range rows {
+		at := 0
+		for at < len(row) && row[at] == 0 {
+			at++
+		}
+		if at == len(row) || at <= last || row[at] != 1 {
+			return false
+		}
+		for j, other := range rows {
+			if j != i && other[at] != 0 {
+				return false
+			}
+		}
+		last = at
+	}
+	return true
+}
+
+// isCodeOf reports an error unless have is a code of length n over g, e is OK, and its words are just those of the list want, in which a word may be several times.
+func isCodeOf(t *testing.T, have api.Code, e api.Errno, g *field.GF, n int, want [][]int, promise string, args ...any) {
+	t.Helper()
+	if e != api.OK || !field.Same(have.F, g.Field()) || have.N != n || !isCanonical(have.Gen) {
+		t.Errorf("%s: %v: %v: have %v and error %d", promise, g.Field(), args, have, e)
+		return
+	}
+	is := map[string]bool{}
+	for _, w := range want {
+		is[key(w)] = true
+	}
+	list := spanned(g, n, have.Gen)
+	for _, w := range list {
+		if !is[key(w)] {
+			t.Errorf("%s: %v: %v: have %v: %v is no word", promise, g.Field(), args, have, w)
+		}
+	}
+	if len(list) != len(is) {
+		t.Errorf("%s: %v: %v: have %v with %d words, want %d", promise, g.Field(), args, have, len(list), len(is))
+	}
+}
+
+// copied returns c in new memory.
+func copied(c api.Code) api.Code {
+	out := api.Code{F: c.F, N: c.N}
+	out.F.Mod = slices.Clone(c.F.Mod)
+	for _, row := range c.Gen {
+		out.Gen = append(out.Gen, slices.Clone(row))
+	}
+	return out
+}
+
+// sameLists reports whether a and b have the same lists.
+func sameLists(a, b [][]int) bool {
+	return slices.EqualFunc(a, b, slices.Equal)
+}
+
+// equal reports whether c and d are equal.
+func equal(c, d api.Code) bool {
+	return field.Same(c.F, d.F) && c.N == d.N && sameLists(c.Gen, d.Gen)
+}
+
+// sameCode reports an error unless have is want, and e is OK.
+func sameCode(t *testing.T, have api.Code, e api.Errno, want api.Code, promise string, args ...any) {
+	t.Helper()
+	if e != api.OK || !equal(have, want) {
+		t.Errorf("%s: %v: have %v and error %d, want %v", promise, args, have, e, want)
+	}
+}
+
+// isInside reports an error unless w is a word of c.
+func isInside(t *testing.T, w []int, c api.Code, promise string, args ...any) {
+	t.Helper()
+	if in, e := code.Has(c, w); e != api.OK || !in {
+		t.Errorf("%s: %v: %v is no word of %v: error %d", promise, args, w, c, e)
+	}
+}
+
+// result is what a function returns.
+type result struct {
+	c api.Code
+	e api.Errno
+}
+
+func of(c api.Code, e api.Errno) result { return result{c, e} }
+
+// failed reports an error unless all results have the error want, and no code.
+func failed(t *testing.T, results map[string]result, want api.Errno, promise string, args ...any) {
+	t.Helper()
+	for name, r := range results {
+		if r.e != want || !equal(r.c, api.Code{}) {
+			t.Errorf("%s: %s of %v: have %v and error %d, want error %d and no code", promise, name, args, r.c, r.e, want)
+		}
+	}
+}
+
+// ofSet returns what the functions of a set of positions return.
+func ofSet(c api.Code, set []int) map[string]result {
+	return map[string]result{"Puncture": of(modify.Puncture(c, set)), "Shorten": of(modify.Shorten(c, set))}
+}
+
+// ofField returns what the functions of a smaller field return.
+func ofField(c api.Code, f api.Field) map[string]result {
+	return map[string]result{"Subfield": of(modify.Subfield(c, f)), "Trace": of(modify.Trace(c, f))}
+}
+
+// ofAll returns what all functions return for c and the other arguments.
+func ofAll(c api.Code, list []int, f api.Field) map[string]result {
+	results := map[string]result{
+		"Extend":    of(modify.Extend(c)),
+		"Expurgate": of(modify.Expurgate(c)),
+		"Augment":   of(modify.Augment(c)),
+		"Subcode":   of(modify.Subcode(c, list)),
+		"Permute":   of(modify.Permute(c, list)),
+		"Lift":      of(modify.Lift(c, f)),
+	}
+	for _, more := range []map[string]result{ofSet(c, list), ofField(c, f)} {
+		for name, r := range more {
+			results[name] = r
+		}
+	}
+	return results
+}
+
+// badCodes returns data that are no codes, with the errors of code.Check; with each of them, errors that are named later.
+func badCodes(g *field.GF) map[api.Errno]api.Code {
+	f := g.Field()
+	return map[api.Errno]api.Code{
+		api.ErrField:   {F: api.Field{P: 4, M: 1}, N: 0, Gen: digits("10")},
+		api.ErrLength:  {F: f, N: 65, Gen: digits("10")},
+		api.ErrShape:   {F: f, N: 3, Gen: [][]int{{0, -1, 0}, {0, 0}}},
+		api.ErrElement: {F: f, N: 3, Gen: [][]int{{0, 1, 0}, {0, 0, g.Order()}}},
+		api.ErrForm:    {F: f, N: 3, Gen: digits("010", "100")},
+	}
+}
+
+// far are ints that are far outside of any range.
+var far = []int{math.MinInt, -1, 64, 1 << 32, math.MaxInt}
